@@ -1,0 +1,1 @@
+"""Fairbourse: an exchange with its clearing house."""

@@ -1,0 +1,61 @@
+"""The interface: names, arguments, fields, and where they are defined."""
+
+import importlib
+import inspect
+import unittest
+
+FUNCTIONS = {
+    "money": {
+        "split": "(amount, weights)", "deal_order": "(amount, weights)", "deal": "(amount, weights)",
+        "fee": "(amount, rate, carried=0)", "format_cents": "(cents)", "parse_cents": "(text)",
+    },
+    "terms": {"parse_terms": "(text)", "format_terms": "(terms)"},
+}
+METHODS = {
+    ("terms", "Terms"): {"__init__": "(self)"},
+    ("book", "Report"): {},
+    ("book", "Book"): {
+        "__init__": "(self, first_number=1)",
+        "submit": "(self, house, side, price, quantity, *, kind='rest', shown=0)",
+        "submit_stop": "(self, house, side, trigger, price, quantity)",
+        "place": "(self, number, house, side, price, quantity)",
+        "cancel": "(self, number, house)",
+        "amend": "(self, number, house, price, quantity)",
+        "orders": "(self, side)", "stops": "(self)", "best": "(self, side)", "depth": "(self, side)",
+    },
+}
+
+
+def module(name):
+    return importlib.import_module("fairbourse." + name)
+
+
+class InterfaceTest(unittest.TestCase):
+    def test_functions(self):
+        for name, functions in FUNCTIONS.items():
+            for function, signature in functions.items():
+                with self.subTest(function):
+                    found = getattr(module(name), function)
+                    self.assertTrue(inspect.isfunction(found))
+                    self.assertEqual(found.__module__, "fairbourse." + name)
+                    self.assertEqual(str(inspect.signature(found)), signature)
+
+    def test_methods_stand_in_the_class_itself(self):
+        for (name, class_name), methods in METHODS.items():
+            found = getattr(module(name), class_name)
+            self.assertEqual(found.__module__, "fairbourse." + name)
+            for method, signature in methods.items():
+                with self.subTest(method):
+                    self.assertEqual(str(inspect.signature(vars(found)[method])), signature)
+
+    def test_fields_are_set_when_an_object_is_created(self):
+        terms = module("terms").Terms()
+        self.assertEqual(set(vars(terms)), {"houses", "instruments", "scenarios", "fund", "fee", "skin"})
+        book = module("book").Book()
+        self.assertIsNone(book.last)
+        report = book.submit("a", "buy", 1, 1)[0]
+        self.assertEqual(set(vars(report)), {"number", "house", "side", "fills", "removed", "resting"})
+
+
+if __name__ == "__main__":
+    unittest.main()
