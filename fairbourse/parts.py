@@ -1,6 +1,7 @@
 """The parts of an order: what they may be, and which prices an order accepts."""
 
 from fairbourse.errors import InvalidOrder
+from fairbourse.integers import is_within
 
 SIDES = ("buy", "sell")
 KINDS = ("rest", "now", "all")
@@ -33,7 +34,7 @@ def check_side(side):
 
 def check_number(number, least, most):
     """Raise InvalidOrder unless this is an integer from `least` to `most`."""
-    if not isinstance(number, int) or isinstance(number, bool) or not least <= number <= most:
+    if not is_within(least, most, number):
         raise InvalidOrder("a part of the order is out of range")
 
 

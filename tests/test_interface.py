@@ -10,6 +10,11 @@ FUNCTIONS = {
         "fee": "(amount, rate, carried=0)", "format_cents": "(cents)", "parse_cents": "(text)",
     },
     "terms": {"parse_terms": "(text)", "format_terms": "(terms)"},
+    "call": {"call_price": "(orders, reference)", "uncross": "(orders, reference)"},
+    "netting": {
+        "nets": "(trades)", "novate": "(trades, center)", "net_amounts": "(owed)", "bilateral": "(owed)",
+        "compress": "(owed)", "unwind": "(owed)",
+    },
 }
 METHODS = {
     ("terms", "Terms"): {"__init__": "(self)"},
@@ -22,6 +27,15 @@ METHODS = {
         "cancel": "(self, number, house)",
         "amend": "(self, number, house, price, quantity)",
         "orders": "(self, side)", "stops": "(self)", "best": "(self, side)", "depth": "(self, side)",
+    },
+    ("market", "Market"): {
+        "__init__": "(self, tick, lot, band, reference)", "closing_reference": "(self)", "queue": "(self)",
+        "open_quantities": "(self, house, side)",
+    },
+    ("ledger", "Ledger"): {
+        "__init__": "(self)", "open_account": "(self, name, *, may_owe=False)", "accounts": "(self)",
+        "balance": "(self, name)", "post": "(self, moves)", "transfer": "(self, source, target, amount)",
+        "entries": "(self)", "statement": "(self, name)",
     },
 }
 
@@ -55,6 +69,8 @@ class InterfaceTest(unittest.TestCase):
         self.assertIsNone(book.last)
         report = book.submit("a", "buy", 1, 1)[0]
         self.assertEqual(set(vars(report)), {"number", "house", "side", "fills", "removed", "resting"})
+        market = module("market").Market(1, 2, 3, 4)
+        self.assertLessEqual({"tick", "lot", "band", "reference", "phase", "book"}, set(vars(market)))
 
 
 if __name__ == "__main__":
