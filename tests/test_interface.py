@@ -15,6 +15,21 @@ FUNCTIONS = {
         "nets": "(trades)", "novate": "(trades, center)", "net_amounts": "(owed)", "bilateral": "(owed)",
         "compress": "(owed)", "unwind": "(owed)",
     },
+    "margin": {
+        "loss": "(positions, scenario)", "requirement": "(positions, scenarios)",
+        "order_requirement": "(positions, orders, scenarios)", "margin_calls": "(requirements, posted)",
+    },
+    "corporate": {
+        "dividend": "(holdings, cents)", "share_split": "(holdings, numerator, denominator, price)",
+    },
+    "settle": {
+        "receipts": "(owed, pay)", "received": "(owed, pay)", "round_of": "(owed, cash, pay)",
+        "clearing": "(owed, cash)", "cash_after": "(owed, cash, pay)", "fallen": "(owed, pay)",
+        "missing": "(owed, delivered)", "settle_day": "(instruments, owed, cash)",
+    },
+    "waterfall": {
+        "bear": "(loss, tiers)", "tiers_of": "(fallen, margin, shares, skin)", "tear_up": "(left, gains)",
+    },
 }
 METHODS = {
     ("terms", "Terms"): {"__init__": "(self)"},
@@ -36,6 +51,11 @@ METHODS = {
         "__init__": "(self)", "open_account": "(self, name, *, may_owe=False)", "accounts": "(self)",
         "balance": "(self, name)", "post": "(self, moves)", "transfer": "(self, source, target, amount)",
         "entries": "(self)", "statement": "(self, name)",
+    },
+    ("settle", "Delivery"): {"__init__": "(self, owed, held, price)"},
+    ("settle", "Settlement"): {"__init__": "(self, deliveries, owed, cash)"},
+    ("waterfall", "Default"): {
+        "__init__": "(self, fallen, loss, margin, shares, skin, gains)", "borne_by": "(self, house)",
     },
 }
 
@@ -71,6 +91,12 @@ class InterfaceTest(unittest.TestCase):
         self.assertEqual(set(vars(report)), {"number", "house", "side", "fills", "removed", "resting"})
         market = module("market").Market(1, 2, 3, 4)
         self.assertLessEqual({"tick", "lot", "band", "reference", "phase", "book"}, set(vars(market)))
+        delivery = module("settle").Delivery([[0]], [0], 0)
+        self.assertLessEqual({"delivered", "missing", "held", "price"}, set(vars(delivery)))
+        settlement = module("settle").Settlement([], [[0]], [0])
+        self.assertLessEqual({"deliveries", "owed", "pay", "paid", "cash", "fallen"}, set(vars(settlement)))
+        default = module("waterfall").Default(0, 0, 0, [0], 0, [0])
+        self.assertLessEqual({"tiers", "borne", "left", "torn", "uncovered"}, set(vars(default)))
 
 
 if __name__ == "__main__":

@@ -7,8 +7,9 @@ import unittest
 from fairbourse.errors import InvalidTrade
 from fairbourse.netting import bilateral, compress, net_amounts, nets, novate, unwind
 from support import BourseCase
+from tables import MOST_DEBT as MOST
+from tables import drawn_table, empty_table
 
-MOST = 10 ** 15
 OF_DEBTS = (net_amounts, bilateral, compress, unwind)
 BAD_TRADES = [
     ("a", "a", 5, 100), ("", "", 5, 100), ("", "b", 5, 100), ("a", "", 5, 100),
@@ -16,20 +17,6 @@ BAD_TRADES = [
     ("a", "b", 5, -1), ("a", "b", 5, -10 ** 30), ("a", "b", 5, True), ("a", "b", 5, False), ("a", "b", 5, None),
     ("a", "a", 0, -1),
 ]
-
-
-def empty_table(houses):
-    return [[0] * houses for _ in range(houses)]
-
-
-def drawn_table(draw, houses, most, density):
-    """A table in which a pair of houses has a debt with a probability."""
-    owed = empty_table(houses)
-    for debtor in range(houses):
-        for creditor in range(houses):
-            if debtor != creditor and draw.random() < density:
-                owed[debtor][creditor] = draw.randint(1, most)
-    return owed
 
 
 def drawn_tables(seed, rounds):
