@@ -91,6 +91,10 @@ class Book:
         """Return the prices of a side with their visible quantities, the best price first."""
         return self._sides[side].depth()
 
+    def shown_parts(self, side):
+        """Return the number of each open order of a side and its `shown`, which `orders` does not tell."""
+        return self._sides[side].shown_parts()
+
     def _take_number(self):
         number = self._next_number
         self._next_number += 1

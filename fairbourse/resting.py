@@ -67,6 +67,10 @@ class BookSide:
         """Return the orders as a list of tuples."""
         return [(order.number, order.house, order.price, order.left, order.visible) for order in self._orders]
 
+    def shown_parts(self):
+        """Return the number of each order and how much of it may be visible at a time."""
+        return [(order.number, order.shown) for order in self._orders]
+
     def depth(self):
         """Return the visible quantity at each price, the best price first."""
         quantities = {}

@@ -1,4 +1,6 @@
-"""Tables of debts and lists of amounts, good ones and bad ones."""
+"""Tables of debts and lists of amounts, good ones and bad ones; and a model of the payments."""
+
+from fairbourse.money import split
 
 MOST_DEBT = 10 ** 15
 MOST_HELD = 10 ** 17
@@ -49,3 +51,20 @@ def bad_amounts(houses):
         for at in (0, houses - 1):
             lists.append([0] * at + [bad] + [0] * (houses - 1 - at))
     return lists
+
+
+def round_by_the_words(owed, cash, pay):
+    """Point 8.2, word by word."""
+    able = []
+    for house, debts in enumerate(owed):
+        income = sum(split(amount, row)[house] for amount, row in zip(pay, owed))
+        able.append(min(sum(debts), cash[house] + income))
+    return able
+
+
+def greatest_by_rounds(owed, cash):
+    """Point 8.3, word by word."""
+    pay = [sum(debts) for debts in owed]
+    while round_by_the_words(owed, cash, pay) != pay:
+        pay = round_by_the_words(owed, cash, pay)
+    return pay

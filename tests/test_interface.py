@@ -2,8 +2,10 @@
 
 import importlib
 import inspect
+import pathlib
 import unittest
 
+PACKAGE = pathlib.Path(__file__).resolve().parent.parent / "fairbourse"
 FUNCTIONS = {
     "money": {
         "split": "(amount, weights)", "deal_order": "(amount, weights)", "deal": "(amount, weights)",
@@ -30,6 +32,12 @@ FUNCTIONS = {
     "waterfall": {
         "bear": "(loss, tiers)", "tiers_of": "(fallen, margin, shares, skin)", "tear_up": "(left, gains)",
     },
+    "tape": {"check_of": "(text)", "write_line": "(number, text)", "read_tape": "(tape)"},
+    "day": {
+        "settle": "(exchange)", "pay_dividend": "(exchange, symbol, cents)",
+        "split_shares": "(exchange, symbol, numerator, denominator)",
+    },
+    "session": {"parse_command": "(line)", "replay": "(terms, tape)", "state": "(exchange)"},
 }
 METHODS = {
     ("terms", "Terms"): {"__init__": "(self)"},
@@ -57,6 +65,18 @@ METHODS = {
     ("waterfall", "Default"): {
         "__init__": "(self, fallen, loss, margin, shares, skin, gains)", "borne_by": "(self, house)",
     },
+    ("tape", "Tape"): {"__init__": "(self)", "append": "(self, text)", "texts": "(self)", "whole": "(self)"},
+    ("exchange", "Exchange"): {
+        "__init__": "(self, terms)", "deposit": "(self, house, cents)", "withdraw": "(self, house, cents)",
+        "pledge": "(self, house, cents)", "release": "(self, house, cents)", "issue": "(self, house, symbol, units)",
+        "owe": "(self, debtor, creditor, cents)",
+        "order": "(self, house, symbol, side, price, quantity, *, kind='rest', shown=0)",
+        "stop": "(self, house, symbol, side, trigger, price, quantity)", "cancel": "(self, house, symbol, number)",
+        "start": "(self, symbol)", "market": "(self, symbol)", "bought": "(self, house, symbol)",
+        "needed": "(self, house, extra)",
+    },
+    ("day", "Day"): {},
+    ("session", "Session"): {"__init__": "(self, terms)", "execute": "(self, line)", "tape": "(self)"},
 }
 
 
@@ -97,6 +117,20 @@ class InterfaceTest(unittest.TestCase):
         self.assertLessEqual({"deliveries", "owed", "pay", "paid", "cash", "fallen"}, set(vars(settlement)))
         default = module("waterfall").Default(0, 0, 0, [0], 0, [0])
         self.assertLessEqual({"tiers", "borne", "left", "torn", "uncovered"}, set(vars(default)))
+        session = module("session").Session("house a 5\ninstrument X 1 1 1 1")
+        self.assertIn("exchange", vars(session))
+        fields = {"houses", "symbols", "cash", "units", "trades", "debts", "fallen"}
+        self.assertLessEqual(fields, set(vars(session.exchange)))
+        self.assertIs(type(session.exchange.market("X")), module("market").Market)
+        self.assertIs(type(session.exchange.cash), module("ledger").Ledger)
+        self.assertIs(type(session.exchange.units), module("ledger").Ledger)
+        day = module("day").settle(session.exchange)
+        self.assertLessEqual({"owed", "pay", "losses", "fallen"}, set(vars(day)))
+
+    def test_all_files_can_be_imported(self):
+        for path in sorted(PACKAGE.glob("*.py")):
+            with self.subTest(path.name):
+                self.assertTrue(module(path.stem).__doc__)
 
 
 if __name__ == "__main__":

@@ -9,16 +9,9 @@ from fairbourse.errors import InvalidAmount, InvalidTrade
 from fairbourse.money import split
 from fairbourse.settle import cash_after, clearing, fallen, missing, receipts, received, round_of
 from support import BourseCase
-from tables import MOST_DEBT, MOST_HELD, bad_amounts, bad_tables, drawn_table, empty_table, full_table
-
-
-def round_by_the_words(owed, cash, pay):
-    """Point 8.2, word by word."""
-    able = []
-    for house, debts in enumerate(owed):
-        income = sum(split(amount, row)[house] for amount, row in zip(pay, owed))
-        able.append(min(sum(debts), cash[house] + income))
-    return able
+from tables import (
+    MOST_DEBT, MOST_HELD, bad_amounts, bad_tables, drawn_table, empty_table, full_table, round_by_the_words,
+)
 
 
 def greatest_by_search(owed, cash):
