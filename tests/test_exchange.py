@@ -25,6 +25,14 @@ class StartTest(ExchangeCase):
         self.assertEqual(exchange.houses, ["a", "ab", "b"])
         self.assertEqual(exchange.symbols, ["AB", "B", "Z"])
 
+    def test_names_in_ascending_order_whatever_the_order_of_the_terms(self):
+        terms = Terms()
+        terms.houses = [("b", 5), ("a", 6)]
+        terms.instruments = [("Y", 1, 1, 1, 1), ("X", 1, 1, 2, 1)]
+        exchange = Exchange(terms)
+        self.assertEqual((exchange.houses, exchange.symbols), (["a", "b"], ["X", "Y"]))
+        self.assertEqual((exchange.market("X").band, exchange.cash.balance("cash a")), (2, 6))
+
     def test_fields_at_the_start(self):
         exchange = exchange_of()
         self.assertEqual((exchange.trades, exchange.debts, exchange.fallen), ([], [], []))
