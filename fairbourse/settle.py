@@ -33,11 +33,67 @@ def clearing(owed, cash):
     check_debts(owed)
     _check_held(cash, len(owed))
     pay = [sum(debts) for debts in owed]
-    able = round_of(owed, cash, pay)
-    while able != pay:
-        pay = able
-        able = round_of(owed, cash, pay)
+    lower = _after_rounds(owed, cash, pay)
+    while lower != pay:
+        # Where a ring of debts loses little in each round, rounds alone could go on for longer than anybody waits.
+        pay = _leap(owed, cash, lower, [old - new for old, new in zip(pay, lower)])
+        lower = _after_rounds(owed, cash, pay)
     return pay
+
+
+def _after_rounds(owed, cash, pay):
+    """Return the payments behind some rounds."""
+    for _ in range(2 * len(owed)):
+        pay = round_of(owed, cash, pay)
+    return pay
+
+
+def _leap(owed, cash, pay, drop):
+    """Return payments that are lower by as many times the drop as is safe, for the rounds to go on from there."""
+    reached = pay
+    times = 1
+    while True:
+        found = _raised(owed, cash, [max(0, amount - times * fall) for amount, fall in zip(pay, drop)])
+        if found is None or found == reached:
+            return reached
+        reached = found
+        times *= 2
+
+
+def _raised(owed, cash, pay):
+    """Return payments from these ones up that are surely nowhere below the greatest ones that stand, or None."""
+    for _ in range(4 * len(owed)):
+        able = round_of(owed, cash, pay)
+        if all([amount >= most for amount, most in zip(pay, able)]):
+            return None if _may_rise(owed, pay, able) else pay
+        pay = [max(amount, most) for amount, most in zip(pay, able)]
+    return None
+
+
+def _may_rise(owed, pay, able):
+    """Tell whether other payments may stand that are somewhere greater, if nobody can pay more than it pays here.
+
+    Houses that pay more there receive all that they pay more from each other. So each of them pays here just what it
+    can, and its next cent goes to one of them: whoever follows the next cents of such houses comes round in a ring.
+    """
+    following = {}
+    for house, debts in enumerate(owed):
+        if pay[house] == able[house] and pay[house] < sum(debts):
+            following[house] = _next_creditor(debts, pay[house])
+    for start in following:
+        house = start
+        for _ in owed:
+            house = following.get(house)
+        if house is not None:
+            return True
+    return False
+
+
+def _next_creditor(debts, amount):
+    """Return who gets one cent more if this amount grows by a cent."""
+    parts = split(amount, debts)
+    more = split(amount + 1, debts)
+    return [creditor for creditor in range(len(debts)) if more[creditor] > parts[creditor]][0]
 
 
 def cash_after(owed, cash, pay):

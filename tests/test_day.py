@@ -7,6 +7,7 @@ import unittest
 from fairbourse.corporate import dividend, share_split
 from fairbourse.day import Day, pay_dividend, settle, split_shares
 from fairbourse.errors import HouseFallen, InvalidAmount, InvalidTrade, UnknownName, WrongPhase
+from fairbourse.money import split
 from exchanges import FREE, MOST_PAID_IN, NO_AMOUNTS, ExchangeCase, balances, dump, exchange_of, fees_of
 from naive_day import NaiveDay
 
@@ -246,6 +247,22 @@ class LossesTest(DayCase):
             exchange.owe(debtor, creditor, 5000)
         self.assertEqual(self.settle(exchange).fallen, [])
         self.check_cash(exchange, cash_a=100, cash_b=100, cash_c=100)
+
+    def test_a_ring_with_the_hall_that_loses_little_in_each_round(self):
+        exchange = exchange_of("house a 0\nhouse b 0\nhouse c 0\ninstrument X 1 1 1000000 1000000\nfee 1000000")
+        exchange.start("X")
+        trade(exchange, "a", "b", 10 ** 6, 10 ** 6)
+        exchange.owe("b", "c", 9999)
+        day = settle(exchange)
+        most = 10 ** 12
+        self.assertEqual(day.owed, [[0, 0, 0, 2 * most], [0, 0, 9999, most], [0, 0, 0, 0], [0, most, 0, 0]])
+        # Nobody has cash, so the hall and b pay each other as much as leaves no cent to c.
+        amount = day.pay[1]
+        self.assertEqual(day.pay, [0, amount, 0, amount])
+        self.assertEqual(split(amount, [9999, most]), [0, amount])
+        self.assertEqual(split(amount + 1, [9999, most]), [1, amount])
+        self.assertEqual(day.fallen, ["a", "b"])
+        self.check_cash(exchange, cash_a=0, cash_b=0, cash_c=0, hall=0)
 
     def test_the_units_that_a_fallen_house_sold_are_delivered(self):
         exchange = funded()
