@@ -99,7 +99,7 @@ class Exchange:
         price, trades = self.market(symbol).start()
         for buyer, seller, units in trades:
             if buyer != seller:
-                self._record(buyer, seller, symbol, units, price)
+                self._record_trade(buyer, seller, symbol, units, price)
         return price, len(trades)
 
     def market(self, symbol):
@@ -153,11 +153,11 @@ class Exchange:
         for report in reports:
             for _, house, price, units in report.fills:
                 if report.side == "buy":
-                    self._record(report.house, house, symbol, units, price)
+                    self._record_trade(report.house, house, symbol, units, price)
                 else:
-                    self._record(house, report.house, symbol, units, price)
+                    self._record_trade(house, report.house, symbol, units, price)
 
-    def _record(self, buyer, seller, symbol, units, price):
+    def _record_trade(self, buyer, seller, symbol, units, price):
         """Record a trade, for which both houses owe a fee."""
         self.trades.append((buyer, seller, symbol, units, price))
         for house in (buyer, seller):

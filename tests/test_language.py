@@ -2,6 +2,7 @@
 
 import ast
 import pathlib
+import re
 import unittest
 
 PACKAGE = pathlib.Path(__file__).resolve().parent.parent / "fairbourse"
@@ -9,6 +10,11 @@ FILES = sorted(path for path in PACKAGE.rglob("*") if path.is_file() and path.su
 LIBRARY = {"heapq", "math", "itertools", "collections", "__future__"}
 BARRED_NAMES = {"register", "mro", "elements", "open", "input", "law", "version_info", "with_traceback", "add_note"}
 BARRED_WORDS = {"type", "typing", "enum", "Enum", "dataclass", "overload", "contextmanager", "namedtuple", "global"}
+BARRED_STARTS = re.compile("_wall|_pe_|_dcw_|_enum_|_cm_|_twin_re_|_lay_|_law_|_stub_|_sre|_WallAttr")
+# Digits and underscores behind one of these names do not make it another name.
+BARRED_PLAIN_NAMES = re.compile("(_cold|_tuplegetter|_outside|_record|_written_out|_member_names)[0-9_]*")
+PLAIN_NAME = re.compile("_|_?[A-Za-z][A-Za-z0-9_]*")
+DOUBLE_UNDERSCORE_NAME = re.compile("__[a-z]+__")
 BUILTINS_IN_USE = {
     "len", "range", "enumerate", "zip", "min", "max", "sum", "abs", "sorted", "reversed", "int", "str", "bool", "list",
     "tuple", "dict", "set", "isinstance", "any", "all", "divmod", "ord", "super", "ValueError",
@@ -18,6 +24,29 @@ BUILTINS_IN_USE = {
 def trees():
     for path in FILES:
         yield path, ast.parse(path.read_text(encoding="ascii"))
+
+
+def names_of(tree):
+    """All names of a file, with their lines, and whether each is an attribute or a method."""
+    methods = {row for node in ast.walk(tree) if isinstance(node, ast.ClassDef) for row in node.body}
+    for node in ast.walk(tree):
+        for field in ("id", "attr", "arg", "name", "asname"):
+            name = getattr(node, field, None)
+            if isinstance(name, str):
+                yield name, getattr(node, "lineno", 0), field == "attr" or node in methods
+        if isinstance(node, ast.Nonlocal):
+            for name in node.names:
+                yield name, node.lineno, False
+
+
+def is_barred(name, is_member):
+    """Tell whether rule L12 bars a name; an attribute or a method may begin with `_wall`."""
+    if not PLAIN_NAME.fullmatch(name) and not DOUBLE_UNDERSCORE_NAME.fullmatch(name):
+        return True
+    if BARRED_PLAIN_NAMES.fullmatch(name):
+        return True
+    start = BARRED_STARTS.match(name)
+    return bool(start) and not (is_member and start.group() == "_wall")
 
 
 class LanguageTest(unittest.TestCase):
@@ -78,6 +107,25 @@ class LanguageTest(unittest.TestCase):
                 for name in (getattr(node, field, None) for field in ("id", "attr", "arg", "name")):
                     if isinstance(name, str):
                         self.assertNotIn(name, BARRED_NAMES | BARRED_WORDS, path)
+
+    def test_plain_names(self):
+        barred = []
+        for path, tree in trees():
+            for word in ("_wall", "_WallAttr"):
+                self.assertIsNone(re.search(rf"\b{word}\b", path.read_text(encoding="ascii")), path)
+            barred.extend((path.name, line, name) for name, line, member in names_of(tree) if is_barred(name, member))
+            for node in ast.walk(tree):
+                if isinstance(node, ast.ClassDef):
+                    self.assertFalse(node.name.startswith("_"), (path, node.name))
+        self.assertEqual(barred, [])
+
+    def test_which_names_are_plain(self):
+        for name in ("_", "_low", "_LIMIT", "x1", "_record_trade", "_recorded", "__init__", "_outsider", "_srf"):
+            self.assertFalse(is_barred(name, False), name)
+        for name in ("_record", "_record_", "_record2", "_cold_7", "_sre_x", "_pe_x", "__low", "_1", "_walls"):
+            self.assertTrue(is_barred(name, False), name)
+        self.assertFalse(is_barred("_walls", True))
+        self.assertTrue(is_barred("_record", True))
 
     def test_only_known_builtins_are_called(self):
         for path, tree in trees():
